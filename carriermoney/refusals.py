@@ -1,0 +1,10 @@
+"""The numbers by which a call is refused."""
+
+NOT_OF_ITS_FORM = -1
+OUT_OF_RANGE = -2
+NO_CARRIER = -3
+NOT_THERE = -4
+THERE_ALREADY = -5
+FULL = -6
+NOT_AS_NEEDED = -7
+NOT_FITTING = -8

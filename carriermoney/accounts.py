@@ -1,4 +1,7 @@
-"""The accounts of one house: takes a list of calls and gives back the list of their answers."""
+"""The accounts of one house: takes a list of calls and gives back the list of their answers.
+
+For each call, in order, there stand how many numbers are answered, then these.
+"""
 
 from carriermoney.claims import bill, effect, owed, reject
 from carriermoney.forms import call_fits, has_row, name_of, plain_count
@@ -36,14 +39,12 @@ def answer_fitting(house, name, plain, row):
 
 
 def answer_call(house, place, plain, row):
-    """The answer to one call, after what it does to the house is done."""
     if not call_fits(place, plain, row):
         return [OUT_OF_RANGE]
     return answer_fitting(house, name_of(place), plain, row)
 
 
 def answers(calls):
-    """For each call, in order: how many numbers are answered, then these."""
     house = House()
     given = []
     at = 0

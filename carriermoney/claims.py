@@ -5,17 +5,16 @@ from carriermoney.refusals import FULL, NO_CARRIER, NOT_AS_NEEDED, NOT_FITTING, 
 
 
 def in_clearing(house, currency, amount):
-    """The amount in the clearing's currency, halves rounded up."""
     if currency == 0:
         return amount
     rate = house.rates[currency]
     num = rate[0]
     den = rate[1]
+    # All is doubled, so that half of den, which is added to round halves up, is a whole number too.
     return (2 * amount * num + den) // (2 * den)
 
 
 def unbilled_parts(house, b, a):
-    """The parts of tickets issued by a that are flown by b and not billed, in the order of billing."""
     found = []
     for ticket in house.tickets.values():
         if ticket.issuer == a:
@@ -54,7 +53,7 @@ def may_be_rejected(house, claim):
 
 
 def reject(house, number, r):
-    claim = house.find_claim(number)
+    claim = house.claim_or_none(number)
     if claim is None:
         return [NOT_THERE]
     if not may_be_rejected(house, claim):
@@ -69,7 +68,7 @@ def reject(house, number, r):
 
 
 def effect(house, number):
-    claim = house.find_claim(number)
+    claim = house.claim_or_none(number)
     if claim is None:
         return [NOT_THERE]
     total = 0
@@ -77,7 +76,7 @@ def effect(house, number):
     while claim is not None:
         total += sign * claim.amount
         sign = -sign
-        claim = house.find_claim(claim.rejected_by)
+        claim = house.claim_or_none(claim.rejected_by)
     return [0, total]
 
 

@@ -64,7 +64,6 @@ def row_fits(place, row):
 
 
 def call_fits(place, plain, row):
-    """Whether all numbers of a call are in their ranges and its row, if it has one, is as long as told."""
     if not plain_fits(place, plain):
         return False
     return not has_row(place) or row_fits(place, row)

@@ -35,9 +35,8 @@ class Ticket:
         self.parts = parts
 
 
+# Claims name one another by id, and not as objects, since 0 is then answered as it stands where there is none.
 class Claim:
-    """A claim of the carrier `to` from the carrier `of`; claims name one another by id, 0 for none."""
-
     def __init__(self, to, of, amount, month, depth, parent):
         self.to = to
         self.of = of
@@ -62,19 +61,16 @@ class House:
     def has_carriers(self, numbers):
         return all([number in self.carriers for number in numbers])
 
-    def find_part(self, t, i):
-        """The part i of the ticket t, or None."""
+    def part_or_none(self, t, i):
         if t not in self.tickets or i >= len(self.tickets[t].parts):
             return None
         return self.tickets[t].parts[i]
 
-    def find_claim(self, number):
-        """The claim with this id, or None."""
+    def claim_or_none(self, number):
         if number < 1 or number > len(self.claims):
             return None
         return self.claims[number - 1]
 
     def add_claim(self, claim):
-        """Keeps the claim and answers its id."""
         self.claims.append(claim)
         return len(self.claims)

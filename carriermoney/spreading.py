@@ -2,7 +2,6 @@
 
 
 def spread(amount, weights):
-    """The amount in whole parts by the weights; what is left goes to the greatest rests."""
     if sum(weights) == 0:
         weights = [1] * len(weights)
     total = sum(weights)
@@ -17,7 +16,6 @@ def spread(amount, weights):
 
 
 def cut_value(value, factors, fixed):
-    """The shares of a value whose parts have these factors and these fixed shares (0: none)."""
     left = value - sum(fixed)
     if left < 0 or 0 not in fixed:
         return spread(value, fixed)

@@ -24,7 +24,7 @@ def cut(value, row):
 
 
 def fly(house, t, i):
-    part = house.find_part(t, i)
+    part = house.part_or_none(t, i)
     if part is None:
         return [NOT_THERE]
     if part.state != NOT_FLOWN:
@@ -39,7 +39,7 @@ def fly(house, t, i):
 
 
 def refund(house, t, i):
-    part = house.find_part(t, i)
+    part = house.part_or_none(t, i)
     if part is None:
         return [NOT_THERE]
     if part.state != NOT_FLOWN:

@@ -1,1 +1,1 @@
-"""Money among carriers: tickets, their shares, and the claims that come of them."""
+"""Money among carriers: tickets, their shares, the claims that come of them, and how these are cleared."""

@@ -1,4 +1,4 @@
-"""The calls on claims: bill, reject, effect, owed."""
+"""The calls on claims: bill, reject, effect, owed, claim, unbilled."""
 
 from carriermoney.house import FLOWN_AND_BILLED, FLOWN_NOT_BILLED, MOST_CLAIMS, MOST_DEPTH, MOST_MONTHS_BACK, Claim
 from carriermoney.refusals import FULL, NO_CARRIER, NOT_AS_NEEDED, NOT_FITTING, NOT_THERE
@@ -88,3 +88,20 @@ def owed(house, a, b):
     if not house.has_carriers([a, b]):
         return [NO_CARRIER]
     return [0, unsettled_sum(house, b, a), unsettled_sum(house, a, b)]
+
+
+def show_claim(house, number):
+    claim = house.claim_or_none(number)
+    if claim is None:
+        return [NOT_THERE]
+    made = [claim.to, claim.of, claim.amount, claim.month, claim.depth, claim.parent]
+    return [0] + made + [claim.rejected_by, 1 if claim.settled else 0]
+
+
+def unbilled(house, b, a):
+    if not house.has_carriers([b, a]):
+        return [NO_CARRIER]
+    if a == b:
+        return [NOT_FITTING]
+    parts = unbilled_parts(house, b, a)
+    return [0, len(parts), sum([part.share - part.kept for part in parts])]

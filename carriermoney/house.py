@@ -17,6 +17,8 @@ class Carrier:
     def __init__(self, currency):
         self.currency = currency
         self.suspended = False
+        self.paid = 0
+        self.got = 0
 
 
 class Part:

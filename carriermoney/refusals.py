@@ -1,6 +1,5 @@
-"""The numbers by which a call is refused."""
+"""The numbers by which a call is refused; -1 is not among them, since every call is handed in as its form asks."""
 
-NOT_OF_ITS_FORM = -1
 OUT_OF_RANGE = -2
 NO_CARRIER = -3
 NOT_THERE = -4

@@ -1,4 +1,4 @@
-"""The calls that set what the rest goes by: carrier, rate, charge."""
+"""The calls that set what the rest goes by: carrier, rate, charge, suspend."""
 
 from carriermoney.house import Carrier, MOST_CARRIERS
 from carriermoney.refusals import FULL, NO_CARRIER, NOT_FITTING, THERE_ALREADY
@@ -24,4 +24,12 @@ def set_charge(house, a, b, bp):
     if a == b:
         return [NOT_FITTING]
     house.charges[(a, b)] = bp
+    return [0]
+
+
+def suspend(house, c, flag):
+    if not house.has_carriers([c]):
+        return [NO_CARRIER]
+    carrier = house.carriers[c]
+    carrier.suspended = flag == 1
     return [0]

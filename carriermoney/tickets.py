@@ -1,6 +1,7 @@
-"""The calls on tickets and their parts: issue, cut, fly, refund."""
+"""The calls on tickets and their parts: issue, cut, fly, refund, part, books."""
 
-from carriermoney.house import FLOWN_BY_ISSUER, FLOWN_NOT_BILLED, MOST_TICKETS, NOT_FLOWN, REFUNDED, Part, Ticket
+from carriermoney.house import FLOWN_AND_BILLED, FLOWN_BY_ISSUER, FLOWN_NOT_BILLED, MOST_TICKETS, NOT_FLOWN, REFUNDED
+from carriermoney.house import Part, Ticket
 from carriermoney.refusals import FULL, NO_CARRIER, NOT_AS_NEEDED, NOT_THERE, THERE_ALREADY
 from carriermoney.spreading import cut_value
 
@@ -46,3 +47,30 @@ def refund(house, t, i):
         return [NOT_AS_NEEDED]
     part.state = REFUNDED
     return [0, part.share]
+
+
+def show_part(house, t, i):
+    part = house.part_or_none(t, i)
+    if part is None:
+        return [NOT_THERE]
+    return [0, part.carrier, part.share, part.kept, part.state, part.claim]
+
+
+def shares_together(parts, states):
+    return sum([part.share for part in parts if part.state in states])
+
+
+def show_books(house, a):
+    if not house.has_carriers([a]):
+        return [NO_CARRIER]
+    tickets = [ticket for ticket in house.tickets.values() if ticket.issuer == a]
+    parts = []
+    for ticket in tickets:
+        parts.extend(ticket.parts)
+    worth = sum([ticket.value for ticket in tickets])
+    unflown = shares_together(parts, (NOT_FLOWN,))
+    own = shares_together(parts, (FLOWN_BY_ISSUER,))
+    # Of a part that nobody else has flown nothing is kept, so all that is kept is of parts flown by others.
+    kept = sum([part.kept for part in parts])
+    earned = shares_together(parts, (FLOWN_NOT_BILLED, FLOWN_AND_BILLED)) - kept
+    return [0, worth, unflown, own, kept, earned, shares_together(parts, (REFUNDED,))]

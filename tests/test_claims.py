@@ -2,8 +2,8 @@
 
 import unittest
 
-from carriermoney.house import House
-from tests.helper import HouseTest, bill, carrier, charge, do, effect, fly, issue, last, owed, rate, refund, reject, run
+from tests.helper import (HouseTest, bill, carrier, charge, claim, clear, effect, fly, issue, last, owed, owing, part,
+                          rate, refund, reject, run, suspend)
 
 THREE = [carrier(1), carrier(2), carrier(3)]
 
@@ -18,9 +18,9 @@ def flown_parts(count, first=1):
     return calls
 
 
-def claim_rows(house):
-    return [(claim.to, claim.of, claim.amount, claim.month, claim.depth, claim.parent, claim.rejected_by, claim.settled)
-            for claim in house.claims]
+def claim_rows(calls, count):
+    """What the claims 1 to count are after the calls."""
+    return run(calls + [claim(number) for number in range(1, count + 1)])[-count:]
 
 
 def one_claim(amount):
@@ -45,17 +45,25 @@ class BillTest(HouseTest):
         self.assertEqual(last(calls), [0, 1, 910])
 
     def test_the_claim_and_the_part_afterwards(self):
-        house = House()
-        do(house, one_claim(1000))
-        self.assertEqual(claim_rows(house), [(2, 1, 1000, 0, 0, 0, 0, False)])
-        part = house.tickets[7].parts[0]
-        self.assertEqual((part.carrier, part.share, part.kept, part.state, part.claim), (2, 1000, 0, 3, 1))
+        self.assertEqual(run(one_claim(1000) + [claim(1), part(7, 0)])[-2:],
+                         [[0, 2, 1, 1000, 0, 0, 0, 0, 0], [0, 2, 1000, 0, 3, 1]])
 
     def test_the_month_is_that_of_the_house(self):
-        house = House()
-        house.month = 5
-        do(house, one_claim(1000))
-        self.assertEqual(house.claims[0].month, 5)
+        self.assertEqual(last([clear()] * 5 + one_claim(1000) + [claim(1)]), [0, 2, 1, 1000, 5, 0, 0, 0, 0])
+
+    def test_suspended_carriers_may_bill_and_be_billed(self):
+        for c in (1, 2):
+            self.assertEqual(last(THREE + [suspend(c, 1)] + one_claim(1000)[3:]), [0, 1, 1000])
+
+    def test_ids_go_on_after_a_clearing(self):
+        calls = one_claim(1000) + [clear()] + owing((1, 3, 20))
+        self.assertEqual(last(calls), [0, 2, 20])
+        self.assertEqual(last(calls + [bill(2, 1)]), [0])
+
+    def test_settled_claims_count_among_the_200(self):
+        before = THREE + flown_parts(200) + [bill(2, 1), clear()]
+        self.refused(before + [issue(100, 1, 5, (3, 1, 0)), fly(100, 0)], bill(3, 1), -6)
+        self.refused(before, reject(1, 1), -6)
 
     def test_in_the_order_of_issue_and_then_of_the_parts(self):
         calls = THREE + [issue(9, 1, 100, (2, 1, 0), (2, 3, 0)), issue(4, 1, 10, (2, 1, 0)), issue(5, 1, 7, (2, 1, 0))]
@@ -80,9 +88,7 @@ class BillTest(HouseTest):
         self.assertEqual(last(one_claim(0)), [0, 1, 0])
         self.assertEqual(self.billed(1000, 1, 1, 10000), 0)
         self.assertEqual(self.billed(1, 1, 3), 0)
-        house = House()
-        do(house, one_claim(0))
-        self.assertEqual(house.tickets[7].parts[0].state, 3)
+        self.assertEqual(last(one_claim(0) + [part(7, 0)]), [0, 2, 0, 0, 3, 1])
 
     def test_halves_are_rounded_up(self):
         self.assertEqual(self.billed(1, 1, 2), 1)
@@ -183,32 +189,27 @@ class RejectTest(HouseTest):
     chain = one_claim(100) + [reject(1, 60), reject(2, 40), reject(3, 10)]
 
     def aged(self, months):
-        """A house with claim 1 of month 0, so many months later."""
-        house = House()
-        do(house, one_claim(100))
-        house.month = months
-        return house
+        """Claim 1 of month 0, settled by the first clearing, so many months later."""
+        return one_claim(100) + [clear()] * months
+
+    def aged_unsettled(self, months):
+        return one_claim(100) + [suspend(1, 1)] + [clear()] * months
 
     def test_answers_the_new_id(self):
         self.assertEqual(run(self.chain)[-3:], [[0, 2], [0, 3], [0, 4]])
 
     def test_the_claims_afterwards(self):
-        house = House()
-        do(house, self.chain)
-        self.assertEqual(claim_rows(house), [
-            (2, 1, 100, 0, 0, 0, 2, False),
-            (1, 2, 60, 0, 1, 1, 3, False),
-            (2, 1, 40, 0, 2, 2, 4, False),
-            (1, 2, 10, 0, 3, 3, 0, False),
+        self.assertEqual(claim_rows(self.chain, 4), [
+            [0, 2, 1, 100, 0, 0, 0, 2, 0],
+            [0, 1, 2, 60, 0, 1, 1, 3, 0],
+            [0, 2, 1, 40, 0, 2, 2, 4, 0],
+            [0, 1, 2, 10, 0, 3, 3, 0, 0],
         ])
 
     def test_the_rejected_one_s_id_is_no_count(self):
         calls = THREE + flown_parts(3) + [bill(2, 1), reject(3, 5), reject(1, 6), reject(4, 2)]
         self.assertEqual(run(calls)[-3:], [[0, 4], [0, 5], [0, 6]])
-        house = House()
-        do(house, calls)
-        self.assertEqual([(claim.parent, claim.rejected_by) for claim in house.claims],
-                         [(0, 5), (0, 0), (0, 4), (3, 6), (1, 0), (4, 0)])
+        self.assertEqual([row[6:8] for row in claim_rows(calls, 6)], [[0, 5], [0, 0], [0, 4], [3, 6], [1, 0], [4, 0]])
 
     def test_no_such_claim(self):
         self.refused(THREE, reject(1, 1), -4)
@@ -223,19 +224,22 @@ class RejectTest(HouseTest):
         self.refused(self.chain, reject(4, 1), -7)
 
     def test_months(self):
-        for months in (0, 1, 2):
-            self.assertEqual(do(self.aged(months), [reject(1, 100)]), [[0, 2]])
-        for months in (3, 4, 100):
-            self.refused([], reject(1, 100), -7, self.aged(months))
+        for before in (self.aged, self.aged_unsettled):
+            for months in (0, 1, 2):
+                self.assertEqual(last(before(months) + [reject(1, 100)]), [0, 2])
+            for months in (3, 4, 100):
+                self.refused(before(months), reject(1, 100), -7)
+
+    def test_months_count_from_the_claim_s_own(self):
+        later = [clear()] * 10 + one_claim(100)
+        self.assertEqual(last(later + [clear()] * 2 + [reject(1, 100)]), [0, 2])
+        self.refused(later + [clear()] * 3, reject(1, 100), -7)
 
     def test_the_new_claim_is_of_the_house_s_month(self):
-        house = self.aged(2)
-        do(house, [reject(1, 50)])
-        self.assertEqual([claim.month for claim in house.claims], [0, 2])
-        house.month = 4
-        self.assertEqual(do(house, [reject(2, 50)]), [[0, 3]])
-        house.month = 7
-        self.refused([], reject(3, 50), -7, house)
+        calls = self.aged(2) + [reject(1, 50)] + [clear()] * 2 + [reject(2, 50)]
+        self.assertEqual([row[4] for row in claim_rows(calls, 3)], [0, 2, 4])
+        self.assertEqual(last(calls + [clear()] * 2 + [reject(3, 50)]), [0, 4])
+        self.refused(calls + [clear()] * 3, reject(3, 50), -7)
 
     def test_just_the_amount_and_more(self):
         self.assertEqual(last(one_claim(100) + [reject(1, 100)]), [0, 2])
@@ -250,10 +254,10 @@ class RejectTest(HouseTest):
         self.refused(one_claim(100) + [reject(1, 60)], reject(2, 61), -8)
 
     def test_whether_it_is_settled_does_not_matter(self):
-        house = self.aged(1)
-        house.claims[0].settled = True
-        self.assertEqual(do(house, [reject(1, 100)]), [[0, 2]])
-        self.assertEqual([claim.settled for claim in house.claims], [True, False])
+        self.assertEqual(claim_rows(self.aged(1) + [reject(1, 70)], 2),
+                         [[0, 2, 1, 100, 0, 0, 0, 2, 1], [0, 1, 2, 70, 1, 1, 1, 0, 0]])
+        self.assertEqual(claim_rows(self.aged_unsettled(1) + [reject(1, 70)], 2),
+                         [[0, 2, 1, 100, 0, 0, 0, 2, 0], [0, 1, 2, 70, 1, 1, 1, 0, 0]])
 
     def test_200_claims(self):
         self.assertEqual(last(THREE + flown_parts(199) + [bill(2, 1), reject(1, 1)]), [0, 200])
@@ -267,7 +271,9 @@ class RejectTest(HouseTest):
         self.refused(full, reject(2, 5), -6)
         self.refused(full, reject(1000, 1), -2)
         self.refused(self.chain, reject(4, 11), -7)
-        self.refused([], reject(1, 101), -7, self.aged(3))
+        self.refused(self.aged(3), reject(1, 101), -7)
+        self.refused(self.aged(3), reject(2, 101), -4)
+        self.refused(THREE + flown_parts(200) + [bill(2, 1)] + [clear()] * 3, reject(1, 1), -7)
 
 
 class EffectTest(HouseTest):
@@ -291,10 +297,9 @@ class EffectTest(HouseTest):
         self.assertEqual(run(calls)[-4:], [[0, 10], [0, 6], [0, 10], [0, 4]])
 
     def test_settled_or_not_does_not_matter(self):
-        house = House()
-        do(house, one_claim(100) + [reject(1, 60)])
-        house.claims[0].settled = True
-        self.assertEqual(do(house, [effect(1)]), [[0, 40]])
+        self.assertEqual(last(one_claim(100) + [clear(), reject(1, 60), effect(1)]), [0, 40])
+        self.assertEqual(last(one_claim(100) + [clear(), reject(1, 60), clear(), effect(1)]), [0, 40])
+        self.assertEqual(last(one_claim(100) + [suspend(2, 1), clear(), reject(1, 60), effect(1)]), [0, 40])
 
     def test_no_such_claim(self):
         self.refused([], effect(1), -4)
@@ -326,18 +331,17 @@ class OwedTest(HouseTest):
         self.assertEqual(last(THREE + flown_parts(3) + [owed(1, 2)]), [0, 0, 0])
 
     def test_settled_claims_do_not_count(self):
-        house = House()
-        do(house, THREE + flown_parts(3) + [bill(2, 1), reject(1, 4)])
-        house.claims[1].settled = True
-        self.assertEqual(do(house, [owed(1, 2)]), [[0, 20, 4]])
-        house.claims[3].settled = True
-        self.assertEqual(do(house, [owed(1, 2)]), [[0, 20, 0]])
+        calls = THREE + flown_parts(3) + [bill(2, 1), reject(1, 4), owed(1, 2), clear(), owed(1, 2)]
+        self.assertEqual([run(calls)[-3], run(calls)[-1]], [[0, 30, 4], [0, 0, 0]])
+        self.assertEqual(last(calls + [reject(2, 3), owed(1, 2)]), [0, 0, 3])
+        self.assertEqual(last(calls + [reject(2, 3)] + flown_parts(2, 10) + [bill(2, 1), owed(1, 2)]), [0, 20, 3])
 
     def test_suspended_carriers_claims_count(self):
-        house = House()
-        do(house, one_claim(100))
-        house.carriers[1].suspended = True
-        self.assertEqual(do(house, [owed(1, 2), owed(2, 1)]), [[0, 100, 0], [0, 0, 100]])
+        for c in (1, 2):
+            calls = one_claim(100) + [suspend(c, 1), owed(1, 2), owed(2, 1)]
+            self.assertEqual(run(calls)[-2:], [[0, 100, 0], [0, 0, 100]])
+            self.assertEqual(last(calls + [clear(), owed(1, 2)]), [0, 100, 0])
+            self.assertEqual(last(calls + [clear(), suspend(c, 0), clear(), owed(1, 2)]), [0, 0, 0])
 
     def test_a_carrier_and_itself(self):
         self.assertEqual(last(one_claim(100) + [owed(1, 1)]), [0, 0, 0])

@@ -21,19 +21,21 @@ CALLS = {
     8: ([1, 1], None, [(1, 999), (1, 10000000000000000)]),
     9: ([1], None, [(1, 999)]),
     10: ([5, 0], None, [(0, 675), (0, 675)]),
+    11: ([], None, []),
+    12: ([], None, []),
     13: ([5, 0], None, [(0, 675), (0, 1)]),
+    14: ([], None, []),
     15: ([5], None, [(0, 675)]),
     16: ([5], None, [(0, 675)]),
     17: ([1, 0], None, [(1, 999999999), (0, 7)]),
     18: ([1], None, [(1, 999)]),
     19: ([5, 0], None, [(0, 675), (0, 675)]),
+    20: ([], None, []),
     21: ([], [0, 5, 0], []),
 }
 
-# Calls that are read, and looked at for -2, but not built yet.
-NOT_BUILT = range(11, 22)
-
 # For each call with a row: the ranges of a group's numbers, a group that is taken, the fewest and the most groups.
+# Each group of issue and of cut is answered by a share; check is answered by one number, whatever its length.
 ROWS = {
     3: ([(0, 675), (0, 1000000), (0, 1000000000)], [0, 1, 0], 1, 8),
     4: ([(0, 1000000), (0, 1000000000)], [1, 0], 1, 8),
@@ -53,8 +55,7 @@ class PlainRangeTest(HouseTest):
 
     def test_what_is_in_the_middle_is_taken(self):
         for place, (plain, row, _) in CALLS.items():
-            if place not in NOT_BUILT:
-                self.assertEqual(last(BEFORE + [(place, plain, row)])[0], 0, place)
+            self.assertEqual(last(BEFORE + [(place, plain, row)])[0], 0, place)
 
     def test_least_and_greatest_are_in_range(self):
         for place, plain, row, at, least, most in self.each_argument():
@@ -100,19 +101,23 @@ class RowRangeTest(HouseTest):
                 call = (place, CALLS[place][0], (group * 100)[:length])
                 if length % width != 0 or not fewest_groups <= length // width <= most_groups:
                     self.refused(BEFORE, call, -2)
-                elif place in NOT_BUILT:
-                    self.assertNotEqual(last(BEFORE + [call]), [-2])
                 else:
-                    self.assertEqual(len(last(BEFORE + [call])), 1 + length // width)
+                    answer = last(BEFORE + [call])
+                    self.assertEqual(answer[0], 0)
+                    self.assertEqual(len(answer), 2 if place == 21 else 1 + length // width)
 
     def test_a_wrong_row_comes_before_all_other_refusals(self):
         self.refused([], (3, [1, 5, 10], [5, 1]), -2)
         self.refused([], (3, [1, 5, 10], [5, 1, -1]), -2)
         self.refused(BEFORE, (3, [1, 6, 10], []), -2)
+        self.refused([], (21, [], [5, 6]), -2)
+        self.refused([], (21, [], [5, 6, -1]), -2)
+        self.refused(BEFORE, (21, [], [0, 5, 1, 6, 7, 1000000000000000001]), -2)
 
     def test_a_wrong_length_with_numbers_out_of_range(self):
         self.refused([], (4, [-1], [FAR] * 100), -2)
         self.refused([], (3, [0, FAR, -1], [-FAR] * 100), -2)
+        self.refused([], (21, [], [FAR] * 100), -2)
 
 
 if __name__ == "__main__":

@@ -2,8 +2,7 @@
 
 import unittest
 
-from carriermoney.house import House
-from tests.helper import HouseTest, bill, carrier, charge, do, fly, issue, last, owed, rate, run
+from tests.helper import HouseTest, account, bill, carrier, charge, fly, issue, last, owed, rate, run
 
 TEN = [carrier(c) for c in range(10)]
 
@@ -13,10 +12,8 @@ class CarrierTest(HouseTest):
         self.assertEqual(run([owed(3, 3), carrier(3), owed(3, 3)]), [[-3], [0], [0, 0, 0]])
 
     def test_has_its_currency_and_is_not_suspended(self):
-        house = House()
-        self.assertEqual(do(house, [carrier(0, 0), carrier(675, 7)]), [[0], [0]])
-        self.assertEqual([house.carriers[c].currency for c in (0, 675)], [0, 7])
-        self.assertEqual([house.carriers[c].suspended for c in (0, 675)], [False, False])
+        self.assertEqual(run([carrier(0, 0), carrier(675, 7), account(0), account(675)]),
+                         [[0], [0], [0, 0, 0, 0, 0, 0], [0, 7, 0, 0, 0, 0]])
 
     def test_number_0_and_currency_0_are_as_good_as_others(self):
         self.assertEqual(run([carrier(0), carrier(0)]), [[0], [-5]])
